@@ -1,0 +1,1 @@
+"""Leafjudge: trees of questions grown from cases."""
