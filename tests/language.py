@@ -1,7 +1,8 @@
 """Reads the package's files by the rules of LANGUAGE.md: tells each place that lies outside one.
 
-What a rule leaves to a reader's eye (who changes what, plain meaning) is not read here. The document asks for
-no __main__.py, so none is let pass.
+Not all of each rule is read: L9, L11 and L13 not at all, and of L15, L18, L19, L22, L23, L26 and L28 only what shows
+in the shape of a single place. A file without faults here may still lie outside. The document asks for no
+__main__.py, so none is let pass.
 """
 
 import ast
