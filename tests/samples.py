@@ -1,4 +1,7 @@
-"""What several tests hand in: forms, and things of every kind that the document tells of."""
+"""What several tests hand in: forms, rows, trees, and things of every kind that the document tells of."""
+
+import itertools
+import random
 
 SHIRT = (
     (("size", ("small", "mid", "large")), ("dyed", ("no", "yes"))),
@@ -10,6 +13,17 @@ SHIRT_CASES = [
     ("large", "no"), ("large", "yes"), ("large", None),
     (None, "no"), (None, "yes"), (None, None),
 ]
+# Fields of two, three, four and five values, whose values and names are like one another.
+LADDER = (
+    (("p", ("p", "q")), ("q", ("r", "q", "p")), ("r", ("p", "q", "r", "s")), ("s", ("t", "s", "r", "q", "p"))),
+    ("p", "q", "r"),
+)
+# Names that are words of the texts.
+WORDY = (
+    (("is", ("yes", "no", "say")), ("upto", ("is", "upto", "ask", "no")), ("say", ("ask", "say"))),
+    ("no", "say", "yes", "ask"),
+)
+FORMS = [SHIRT, LADDER, WORDY]
 
 
 def nested(kind, depth):
@@ -31,8 +45,76 @@ def form_of(value_counts, answers=("x", "y")):
     return (tuple(fields), answers)
 
 
+def every_question(form):
+    """All questions of the form by point 8, those that are not to choose from too."""
+    told = []
+    for name, values in form[0]:
+        told.extend(("is", name, value) for value in values)
+        told.extend(("upto", name, value) for value in values[:-1])
+    return told
+
+
+def every_asking(form):
+    return list(itertools.product(every_question(form), ("yes", "no")))
+
+
+def some_rows(form, many, seed, lacking=0.2, like=None):
+    """So many rows by chance, the same ones each time; with like, no two of that many cases have two answers."""
+    chance = random.Random(seed)
+
+    def some_case():
+        return tuple([None if chance.random() < lacking else chance.choice(values) for name, values in form[0]])
+
+    if like is None:
+        return [(some_case(), chance.choice(form[1])) for step in range(many)]
+    pairs = [(some_case(), chance.choice(form[1])) for step in range(like)]
+    return [chance.choice(pairs) for step in range(many)]
+
+
+def some_tree(form, deep, seed, leafy=0.2):
+    """A tree by chance, at most so deep, the same one each time."""
+    chance = random.Random(seed)
+
+    def grow(left):
+        if left == 0 or chance.random() < leafy:
+            return ("say", chance.choice(form[1]))
+        question, stray = chance.choice(every_asking(form))
+        return ("ask", question, stray, grow(left - 1), grow(left - 1))
+
+    return grow(deep)
+
+
+def chain(form, deep, sides=("no",)):
+    """A tree of so many knots, each on a side of the one ahead: the sides taken in turn from the top."""
+    askings = every_asking(form)
+    tree = ("say", form[1][0])
+    for k in reversed(range(deep)):
+        leaf = ("say", form[1][k % len(form[1])])
+        question, stray = askings[k % len(askings)]
+        both = (tree, leaf) if sides[k % len(sides)] == "yes" else (leaf, tree)
+        tree = ("ask", question, stray, *both)
+    return tree
+
+
+def bushy(form, knots):
+    """A tree of so many knots, as even as may be."""
+    if knots == 0:
+        return ("say", form[1][-1])
+    question, stray = every_asking(form)[knots % len(every_asking(form))]
+    half = (knots - 1) // 2
+    return ("ask", question, stray, bushy(form, half), bushy(form, knots - 1 - half))
+
+
+def places_of(tree):
+    """All places of the tree, by its shape."""
+    if tree[0] == "say":
+        return [()]
+    below = [(side,) + place for side, part in zip(("yes", "no"), tree[3:]) for place in places_of(part)]
+    return [()] + below
+
+
 def odd_things():
-    """Things of every kind, made anew; none is a name, a form, a case or a row."""
+    """Things of every kind, made anew; none is a name, a form, a case, a row, a question or a tree."""
     return [
         0, 1, -1, 2, 10 ** 20 - 1, -(10 ** 20 - 1), True, False, None,
         "", " ", "-", "None", "no text here", "~" * 20000, "a" * 20000,
