@@ -34,3 +34,21 @@ def common_divisor(one, other):
         one = other
         other = rest
     return one
+
+
+def added(one, other):
+    """The sum of two fractions."""
+    return fraction(one[0] * other[1] + other[0] * one[1], one[1] * other[1])
+
+
+def is_less(one, other):
+    """Whether the one fraction is less than the other."""
+    return one[0] * other[1] < other[0] * one[1]
+
+
+def common_bottom(fractions):
+    """The least whole number that each fraction's bottom divides."""
+    common = 1
+    for found in fractions:
+        common = common * found[1] // common_divisor(common, found[1])
+    return common

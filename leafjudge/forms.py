@@ -28,6 +28,11 @@ def is_tuple_of(thing, fewest, most):
     return isinstance(thing, tuple) and fewest <= len(thing) <= most
 
 
+def is_whole(thing):
+    """Whether the thing is a whole number: an int that is no truth."""
+    return isinstance(thing, int) and not isinstance(thing, bool)
+
+
 def are_names(thing, fewest, most):
     """Whether the thing is a tuple of so many names, no two alike."""
     if not is_tuple_of(thing, fewest, most):

@@ -38,6 +38,14 @@ def questions_on(field):
     return [("is", name, value) for value in told_by_is] + [("upto", name, value) for value in told_by_upto]
 
 
+def choices_of(form):
+    """Each question to choose from with either stray, as a list of tuples (question, stray)."""
+    choices = []
+    for question in questions_of(form):
+        choices.extend([(question, stray) for stray in SIDES])
+    return choices
+
+
 def side_of(form, question, stray, case):
     """The side to which the question sends the case: "yes" or "no"."""
     number = [field[0] for field in form[0]].index(question[1])
@@ -62,3 +70,8 @@ def parted(form, question, stray, rows):
 def numbers_on(side, sides):
     """The numbers, rising, at which this side stands."""
     return [number for number, found in enumerate(sides) if found == side]
+
+
+def is_proper(sides, fewest):
+    """Whether rows that are parted so have at least so many on each side."""
+    return len(sides[0]) >= fewest and len(sides[1]) >= fewest

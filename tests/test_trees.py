@@ -278,6 +278,10 @@ class Places(unittest.TestCase):
             for more in [("yes",), ("no",), ("yes", "no", "yes"), ("no",) * 9000]:
                 self.is_refused(SHIRT, SHIRT_TREE, SHIRT_ROWS, place + more)
 
+    def test_words_that_are_no_sides(self):
+        for place in [("maybe",), ("",), ("Yes",), ("yes", "say"), ("no", "maybe")]:
+            self.is_refused(SHIRT, SHIRT_TREE, SHIRT_ROWS, place)
+
     def test_one_side_is_a_leaf_and_the_other_none(self):
         tree = ("ask", SMALL, "no", KEEP, ("ask", MID, "no", KEEP, GIVE))
         self.is_refused(SHIRT, tree, SHIRT_ROWS, ("yes", "yes"))
