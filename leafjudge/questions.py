@@ -48,10 +48,18 @@ def choices_of(form):
 
 def side_of(form, question, stray, case):
     """The side to which the question sends the case: "yes" or "no"."""
-    number = [field[0] for field in form[0]].index(question[1])
-    if case[number] is None:
-        return stray
-    return "yes" if case[number] in values_held(question, form[0][number]) else "no"
+    number = field_asked(form, question)
+    return "yes" if case[number] in entries_to_yes(question, stray, form[0][number]) else "no"
+
+
+def field_asked(form, question):
+    """The number of the field of which the question asks."""
+    return [field[0] for field in form[0]].index(question[1])
+
+
+def entries_to_yes(question, stray, field):
+    """What a case has for the question's field where it goes to yes: some of the values, perhaps None."""
+    return values_held(question, field) + ((None,) if stray == "yes" else ())
 
 
 def values_held(question, field):

@@ -1,6 +1,7 @@
-"""What several tests hand in: forms, rows, trees, and things of every kind that the document tells of."""
+"""What several tests hand in: forms, rows, trees, rules, and things of every kind that the document tells of."""
 
 import itertools
+import math
 import random
 
 SHIRT = (
@@ -103,6 +104,51 @@ def bushy(form, knots):
     question, stray = every_asking(form)[knots % len(every_asking(form))]
     half = (knots - 1) // 2
     return ("ask", question, stray, bushy(form, half), bushy(form, knots - 1 - half))
+
+
+def cut_tree(form, many, numbers=None):
+    """A tree with so many leaves, to each of which some case comes; it asks of the fields of these numbers alone."""
+    asked = range(len(form[0])) if numbers is None else numbers
+    answers = itertools.cycle(form[1])
+
+    def many_in(lets):
+        return math.prod(len(let) for let in lets.values())
+
+    def cut(lets, left):
+        if left == 1:
+            return ("say", next(answers))
+        number = next(number for number in asked if len(lets[number]) > 1)
+        name, value = form[0][number][0], lets[number][0]
+        yes, no = dict(lets), dict(lets)
+        yes[number], no[number] = lets[number][:1], lets[number][1:]
+        share = min(many_in(yes), left - 1)
+        return ("ask", ("is", name, value), "no", cut(yes, share), cut(no, left - share))
+
+    return cut({number: form[0][number][1] + (None,) for number in asked}, many)
+
+
+def some_rules(form, many, seed, dense=0.6):
+    """So many rules by chance, the same ones each time; the last one lets in all."""
+    chance = random.Random(seed)
+    whole = tuple([values + (None,) for name, values in form[0]])
+
+    def some_let(entries):
+        return tuple([entry for entry in entries if chance.random() < dense]) or (chance.choice(entries),)
+
+    rules = [(tuple([some_let(entries) for entries in whole]), chance.choice(form[1])) for step in range(many - 1)]
+    return rules + [(whole, chance.choice(form[1]))]
+
+
+def cases_by_the_words(form):
+    return list(itertools.product(*[values + (None,) for name, values in form[0]]))
+
+
+def answer_by_the_words(rules, case):
+    """The answer of the first rule that fits, None where none does."""
+    for lets, answer in rules:
+        if all(entry in let for entry, let in zip(case, lets, strict=True)):
+            return answer
+    return None
 
 
 def places_of(tree):
