@@ -139,6 +139,11 @@ def some_rules(form, many, seed, dense=0.6):
     return rules + [(whole, chance.choice(form[1]))]
 
 
+def single(case):
+    """The lets that let in this case alone."""
+    return tuple([(entry,) for entry in case])
+
+
 def cases_by_the_words(form):
     return list(itertools.product(*[values + (None,) for name, values in form[0]]))
 
@@ -157,6 +162,14 @@ def places_of(tree):
         return [()]
     below = [(side,) + place for side, part in zip(("yes", "no"), tree[3:]) for place in places_of(part)]
     return [()] + below
+
+
+def with_part(tree, place, part):
+    """The tree with another part at a place."""
+    if place == ():
+        return part
+    k = 3 if place[0] == "yes" else 4
+    return tree[:k] + (with_part(tree[k], place[1:], part),) + tree[k + 1:]
 
 
 def odd_things():

@@ -12,7 +12,8 @@ from leafjudge.growing import grown
 from leafjudge.pruning import is_pruning, least_pruning, price_of, steps
 from leafjudge.questions import side_of
 from leafjudge.trees import answer_of, coming, is_tree, knots_in, part_at
-from samples import FORMS, LADDER, SHIRT, WORDY, bushy, chain, every_asking, form_of, places_of, some_rows, some_tree
+from samples import (FORMS, LADDER, SHIRT, WORDY, bushy, chain, every_asking, form_of, places_of, some_rows, some_tree,
+                     with_part)
 
 SMALL = ("is", "size", "small")
 LARGE = ("is", "size", "large")
@@ -76,6 +77,10 @@ def steps_by_the_words(form, tree, rows):
         if knots_in(found) < knots_in(told[-1][1]):
             told.append(((price.numerator, price.denominator), found))
     return told
+
+
+def with_leaf(tree, place, answer):
+    return with_part(tree, place, ("say", answer))
 
 
 def some_small_trees():
@@ -208,17 +213,6 @@ class IsPruning(unittest.TestCase):
         self.assertEqual(handed, (SHIRT, TREE, ROWS))
 
 
-def with_part(tree, place, part):
-    if place == ():
-        return part
-    k = 3 if place[0] == "yes" else 4
-    return tree[:k] + (with_part(tree[k], place[1:], part),) + tree[k + 1:]
-
-
-def with_leaf(tree, place, answer):
-    return with_part(tree, place, ("say", answer))
-
-
 class PriceOf(unittest.TestCase):
     def is_told(self, told, tree, rows, price, form=SHIRT):
         found = price_of(form, tree, rows, price)
@@ -325,7 +319,8 @@ class Steps(unittest.TestCase):
 
     def test_several_knots_go_at_one_price(self):
         tree = ("ask", DYED, "no", ("ask", LARGE, "no", GIVE, KEEP), ("ask", LARGE, "no", GIVE, KEEP))
-        rows = [(("mid", "yes"), "keep"), (("large", "yes"), "give"), (("mid", "no"), "keep"), (("large", "no"), "give")]
+        rows = [(("mid", "yes"), "keep"), (("large", "yes"), "give"), (("mid", "no"), "keep"),
+                (("large", "no"), "give")]
         self.assertEqual(steps(SHIRT, tree, rows), [((0, 1), tree), ((2, 3), KEEP)])
 
     def test_prices_in_lowest_terms(self):

@@ -65,8 +65,9 @@ class IsRule(unittest.TestCase):
         self.is_told(True, [(((None,), (None,)), "keep"), ((SIZES, (None,)), "keep")])
 
     def test_a_value_of_another_field(self):
-        self.is_told(False, [((("no",), DYES), "keep"), ((SIZES, ("small",)), "keep"), ((("small", "no"), DYES), "keep"),
-                             ((DYES, SIZES), "keep"), ((("keep",), DYES), "keep"), ((("size",), DYES), "keep")])
+        self.is_told(False, [((("no",), DYES), "keep"), ((SIZES, ("small",)), "keep"),
+                             ((("small", "no"), DYES), "keep"), ((DYES, SIZES), "keep"),
+                             ((("keep",), DYES), "keep"), ((("size",), DYES), "keep")])
 
     def test_too_few_or_too_many_lets(self):
         self.is_told(False, [((SIZES,), "keep"), ((SIZES, DYES, DYES), "keep"), ((DYES,), "keep"),
@@ -88,7 +89,8 @@ class IsRule(unittest.TestCase):
 
     def test_an_answer_that_is_none(self):
         lets = RULE[0]
-        self.is_told(False, [(lets, answer) for answer in ["small", "", "Keep", "keep ", None, 0, True, ("keep",), lets]])
+        wrong = ["small", "", "Keep", "keep ", None, 0, True, ("keep",), lets]
+        self.is_told(False, [(lets, answer) for answer in wrong])
 
     def test_numbers_none_and_truths(self):
         for odd in [0, 1, -1, True, False, "", "None", "-"]:
@@ -176,16 +178,18 @@ class RulesOf(unittest.TestCase):
     def test_ordinary(self):
         tree = ("ask", SMALL, "no", ("ask", ("is", "dyed", "yes"), "yes", GIVE, KEEP), KEEP)
         self.assertEqual(rules_of(SHIRT, tree), [
-            ((("small",), ("yes", None)), "give"), ((("small",), ("no",)), "keep"), ((("mid", "large", None), DYES), "keep")])
+            ((("small",), ("yes", None)), "give"), ((("small",), ("no",)), "keep"),
+            ((("mid", "large", None), DYES), "keep")])
 
     def test_a_leaf(self):
         self.assertEqual(rules_of(SHIRT, GIVE), [((SIZES, DYES), "give")])
 
     def test_leaves_to_which_no_case_comes(self):
+        told = [((("small",), DYES), "keep"), ((("mid", "large", None), DYES), "give")]
         tree = ("ask", SMALL, "no", ("ask", SMALL, "no", KEEP, GIVE), GIVE)
-        self.assertEqual(rules_of(SHIRT, tree), [((("small",), DYES), "keep"), ((("mid", "large", None), DYES), "give")])
+        self.assertEqual(rules_of(SHIRT, tree), told)
         tree = ("ask", SMALL, "no", KEEP, ("ask", SMALL, "no", ("ask", SMALL, "yes", KEEP, KEEP), GIVE))
-        self.assertEqual(rules_of(SHIRT, tree), [((("small",), DYES), "keep"), ((("mid", "large", None), DYES), "give")])
+        self.assertEqual(rules_of(SHIRT, tree), told)
 
     def test_what_lacks_alone(self):
         tree = ("ask", ("upto", "size", "mid"), "yes", ("ask", ("upto", "size", "mid"), "no", KEEP, GIVE), KEEP)

@@ -9,19 +9,14 @@ from leafjudge.errors import JudgeError, NoRule, TooMany
 from leafjudge.growing import grown
 from leafjudge.rules import is_rule, rules_of
 from leafjudge.short import shortened
-from samples import (FORMS, LADDER, SHIRT, SHIRT_CASES, WORDY, answer_by_the_words, cases_by_the_words, cut_tree, form_of,
-                     some_rows, some_rules, some_tree)
+from samples import (FORMS, LADDER, SHIRT, SHIRT_CASES, WORDY, answer_by_the_words, cases_by_the_words, cut_tree,
+                     form_of, single, some_rows, some_rules, some_tree)
 
 SIZES = ("small", "mid", "large", None)
 DYES = ("no", "yes", None)
 ALL = (SIZES, DYES)
 THREE_HUNDRED = form_of([4, 4, 3, 2], ("x", "y", "z"))
 MORE = form_of([4, 3, 3, 3])
-
-
-def single(case):
-    """The lets that let in this case alone."""
-    return tuple([(entry,) for entry in case])
 
 
 def lets_more(lets, field, entry, entries):

@@ -10,7 +10,7 @@ from leafjudge.errors import JudgeError, NoPlace
 from leafjudge.questions import side_of
 from leafjudge.trees import answer_of, coming, depth_of, is_tree, knots_in, part_at, way_of
 from samples import (FORMS, LADDER, SHIRT, WORDY, bushy, chain, every_asking, odd_things, places_of, some_rows,
-                     some_tree)
+                     some_tree, with_part)
 
 KEEP = ("say", "keep")
 GIVE = ("say", "give")
@@ -38,14 +38,6 @@ WRONG_PARTS = [
     ("ask", SMALL + ("no",), "no", KEEP, GIVE), ("ask", None, "no", KEEP, GIVE), ("ask", KEEP, "no", KEEP, GIVE),
     ("ask", ("are", "size", "small"), "no", KEEP, GIVE), ("ask", (), "no", KEEP, GIVE),
 ]
-
-
-def with_part(tree, place, part):
-    """The tree with another part at a place."""
-    if place == ():
-        return part
-    k = 3 if place[0] == "yes" else 4
-    return tree[:k] + (with_part(tree[k], place[1:], part),) + tree[k + 1:]
 
 
 def leaf_by_the_words(form, tree, case):
